@@ -1,0 +1,1 @@
+"""Nearsteps: several numbers rounded at once, by one finite list of steps."""

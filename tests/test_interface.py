@@ -1,0 +1,63 @@
+"""The interface: what is listed stands in its file, with its parameters, and takes no others."""
+
+import ast
+import pathlib
+import unittest
+
+PACKAGE = pathlib.Path(__file__).resolve().parent.parent / "nearsteps"
+
+# What has landed so far: file, name, parameters.
+FUNCTIONS = {
+    "forms": {
+        "is_table": ["thing"], "is_form": ["thing"], "judge_form": ["table"], "form_holds": ["table", "thing"],
+        "lean": ["form", "one", "other"], "size": ["form", "step"], "is_change": ["n", "thing"],
+        "changed": ["form", "change"], "led": ["n", "change", "step"], "back": ["n", "change"],
+    },
+    "short": {
+        "short_steps": ["form", "most"], "least_size": ["form"], "many_by_size": ["form", "most"],
+    },
+}
+CLASSES = {
+    "errors": {
+        "StepError": None, "BadTable": ["thing"], "BadForm": ["thing"], "BadStep": ["thing"], "BadChange": ["thing"],
+        "BadSpot": ["thing"], "BadNumber": ["thing"], "BadFraction": ["thing"], "BadList": ["thing"],
+        "BadCoarse": ["thing"],
+    },
+}
+
+
+def defined(file, kind):
+    """Return the top-level definitions of a file of the package, by name."""
+    tree = ast.parse((PACKAGE / f"{file}.py").read_text("ascii"))
+    return {node.name: node for node in tree.body if isinstance(node, kind)}
+
+
+def parameters(node):
+    """Return the names of a function's parameters, which are all plain and needed."""
+    told = node.args
+    assert not (told.posonlyargs or told.kwonlyargs or told.defaults or told.vararg or told.kwarg)
+    return [name.arg for name in told.args]
+
+
+class InterfaceTest(unittest.TestCase):
+
+    def test_functions(self):
+        for file, functions in FUNCTIONS.items():
+            there = defined(file, ast.FunctionDef)
+            for name, names in functions.items():
+                self.assertIn(name, there)
+                self.assertEqual(parameters(there[name]), names)
+
+    def test_classes(self):
+        for file, classes in CLASSES.items():
+            there = defined(file, ast.ClassDef)
+            for name, names in classes.items():
+                self.assertIn(name, there)
+                if names is not None:
+                    makers = [node for node in there[name].body
+                              if isinstance(node, ast.FunctionDef) and node.name == "__init__"]
+                    self.assertEqual([parameters(maker) for maker in makers], [["self"] + names])
+
+
+if __name__ == "__main__":
+    unittest.main()
