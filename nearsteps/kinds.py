@@ -1,4 +1,4 @@
-"""Which values are integers, steps and square tables."""
+"""Which values are integers, steps, square tables and certificates of a kind."""
 
 
 def is_whole(thing):
@@ -18,3 +18,8 @@ def is_square(n, thing):
     if not isinstance(thing, tuple) or len(thing) != n:
         return False
     return all(is_step(n, row) for row in thing)
+
+
+def has_word(thing, word, many):
+    """Tell whether any value is a tuple of so many parts whose first one is the word."""
+    return isinstance(thing, tuple) and len(thing) == many and thing[0] == word

@@ -59,3 +59,18 @@ def led_by(rows, numbers):
 def noughts_but(n, at, number):
     """Return the step of n integers that are zeros but for the number at one position."""
     return tuple([number if here == at else 0 for here in range(n)])
+
+
+def noughts_of(n):
+    """Return the step of n zeros."""
+    return (0,) * n
+
+
+def added(one, other):
+    """Return the sum of two steps."""
+    return tuple([number + more for number, more in zip(one, other)])
+
+
+def opposite(step):
+    """Return the opposite of a step."""
+    return tuple([-number for number in step])

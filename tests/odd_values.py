@@ -1,6 +1,7 @@
 """Values of all kinds that stand in wrong places, and a check that counts kinds too."""
 
 import copy
+import math
 
 
 def nested(deep):
@@ -23,13 +24,18 @@ ODD_VALUES = [
     nested(8), [nested(7)], {"a": [{"b": (1, [2, {"c": ((),)}])}]},
 ]
 
+NO_FORMS = [
+    None, True, 1, "form", (), ((),), [(1,)], ([1],), ((0,),), ((-1,),), ((True,),), ((1, 2), (2, 1)), ((1, 1), (1, 1)),
+    ((1, 0), (1, 1)), ((1, 0, 0), (0, 1, 0)), ((1, 0, 0), (0, 1, 0), (0, 0, 0)), {0: (1,)},
+]
+
 
 def strict(thing):
     """Return a text that differs for unlike values, also for True and 1."""
     return repr(thing)
 
 
-def error_of(kind, function, *arguments, **named):
+def error_of(kind, function, /, *arguments, **named):
     """Return the `thing` of the error of exactly this kind that a call raises; check that nothing changed."""
     before = copy.deepcopy((arguments, named))
     for _ in range(2):
@@ -42,6 +48,46 @@ def error_of(kind, function, *arguments, **named):
             raise AssertionError(f"{function.__name__}{arguments} returned {result!r}")
         assert strict(before) == strict((arguments, named)), "an argument was changed"
     return thing
+
+
+def answer(function, /, **named):
+    """Return what a call returns, in whatever way its arguments are passed; they are told in their order."""
+    before = strict(named)
+    told = function(*named.values())
+    for again in (function(*named.values()), function(**named),
+                  function(**dict(reversed(list(named.items()))))):
+        assert strict(again) == strict(told), f"{function.__name__}{named} returned {told!r}, then {again!r}"
+    assert strict(named) == before, "an argument was changed"
+    return told
+
+
+def variants(thing):
+    """Return values that are almost the thing: parts of another kind, left out, exchanged, repeated."""
+    out = [thing, [thing], (thing,), None]
+    if type(thing) is int:
+        return out + [thing + 1, thing - 1, -thing, 2 * thing, bool(thing), str(thing), 10 ** 39]
+    if type(thing) is str:
+        return out + [thing.upper(), thing + " ", thing[:-1], "", "middle"]
+    if type(thing) is tuple:
+        out += [list(thing), thing + thing, thing + (0,), thing[::-1], ()]
+        for at, part in enumerate(thing):
+            out += [thing[:at] + thing[at + 1:], thing[:at] + (part,) + thing[at:]]
+            out += [thing[:at] + (other,) + thing[at + 1:] for other in variants(part) + [0, -1, {}, "spot"]]
+            if at:
+                out.append(thing[:at - 1] + (part, thing[at - 1]) + thing[at + 1:])
+    return out
+
+
+def is_plain_step(n, thing):
+    """Tell whether a value is a step, straight from the words of the document."""
+    return type(thing) is tuple and len(thing) == n and all(type(number) is int for number in thing)
+
+
+def is_plain_spot(n, thing):
+    """Tell whether a value is a spot, straight from the words of the document."""
+    if type(thing) is not tuple or len(thing) != 2 or not is_plain_step(n, thing[0]) or type(thing[1]) is not int:
+        return False
+    return thing[1] > 0 and math.gcd(thing[1], *thing[0]) == 1
 
 
 def plain_lean(table, one, other):

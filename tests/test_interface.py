@@ -16,6 +16,24 @@ FUNCTIONS = {
     "short": {
         "short_steps": ["form", "most"], "least_size": ["form"], "many_by_size": ["form", "most"],
     },
+    "walls": {
+        "class_of": ["n", "step"], "class_size": ["form", "kind"], "class_shortest": ["form", "kind"],
+        "walls": ["form"], "judge_step": ["form", "step"], "step_holds": ["form", "step", "thing"],
+        "is_obtuse": ["form", "thing"], "obtuse_row": ["form"],
+    },
+    "nearest": {
+        "is_spot": ["n", "thing"], "plain_place": ["n", "spot"], "gap": ["form", "spot", "place"],
+        "judge_nearest": ["form", "spot", "place"], "nearest_holds": ["form", "spot", "place", "thing"],
+        "walk": ["form", "spot", "place"], "nearest_places": ["form", "spot"], "judge_plain": ["form"],
+        "plain_holds": ["form", "thing"],
+    },
+    "enough": {
+        "judge_enough": ["form", "steps"], "enough_holds": ["form", "steps", "thing"], "is_enough": ["form", "steps"],
+    },
+    "cells": {
+        "is_in_cell": ["form", "spot"], "judge_corner": ["form", "spot"], "corner_holds": ["form", "spot", "thing"],
+        "corners": ["form"], "face_of": ["form", "wall"], "counts": ["form"],
+    },
 }
 CLASSES = {
     "errors": {

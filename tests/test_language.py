@@ -8,7 +8,10 @@ import unittest
 
 PACKAGE = pathlib.Path(__file__).resolve().parent.parent / "nearsteps"
 FILES = sorted(PACKAGE.rglob("*.py"))
-LIBRARY = {"math": {"gcd", "lcm", "isqrt", "comb", "perm", "factorial"}}
+LIBRARY = {
+    "math": {"gcd", "lcm", "isqrt", "comb", "perm", "factorial"},
+    "itertools": {"product", "combinations", "permutations"},
+}
 BUILTINS = set(
     "len range enumerate zip min max sum abs sorted reversed int str bool list tuple dict set isinstance ord repr "
     "any all divmod Exception ValueError KeyError IndexError ZeroDivisionError".split())
@@ -156,6 +159,39 @@ class CodeTest(unittest.TestCase):
                 if isinstance(node, ast.Call) and isinstance(node.func, ast.Attribute):
                     self.assertIn(node.func.attr, METHODS, path)
                     self.assertEqual(node.keywords, [], path)
+
+    def test_library(self):
+        # What comes from the library is only called, in a function, and products are gone over at once.
+        for path, tree in trees():
+            names = {name for module, name in imported(tree) if module in LIBRARY}
+            products = {name for module, name in imported(tree) if module == "itertools"}
+            calls = [node for top in functions_of(tree) for node in ast.walk(top) if isinstance(node, ast.Call)]
+            called = [node.func for node in calls]
+            heads = [node.iter for node in ast.walk(tree) if isinstance(node, (ast.For, ast.comprehension))]
+            for node in ast.walk(tree):
+                if isinstance(node, ast.Name) and node.id in names:
+                    self.assertIn(node, called, path)
+            for node in calls:
+                if isinstance(node.func, ast.Name) and node.func.id in names:
+                    self.assertEqual(node.keywords, [], path)
+                if isinstance(node.func, ast.Name) and node.func.id in products:
+                    self.assertIn(node, heads, path)
+
+    def test_views_are_gone_over_at_once(self):
+        for path, tree in trees():
+            heads = [node.iter for node in ast.walk(tree) if isinstance(node, (ast.For, ast.comprehension))]
+            for node in ast.walk(tree):
+                if isinstance(node, ast.Call) and isinstance(node.func, ast.Attribute):
+                    if node.func.attr in ("items", "keys", "values"):
+                        self.assertIn(node, heads, path)
+
+    def test_sets_are_sorted_on_the_spot(self):
+        for path, tree in trees():
+            sorts = [part for node in ast.walk(tree) if isinstance(node, ast.Call)
+                     and isinstance(node.func, ast.Name) and node.func.id in ("sorted", "len") for part in node.args]
+            for node in ast.walk(tree):
+                if isinstance(node, ast.Call) and isinstance(node.func, ast.Name) and node.func.id == "set":
+                    self.assertIn(node, sorts, path)
 
     def test_strings(self):
         for path, tree in trees():

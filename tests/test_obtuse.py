@@ -6,7 +6,7 @@ import unittest
 
 from nearsteps.obtuse import class_sums, obtuse_rows, short_rows
 from odd_values import plain_determinant, plain_lean
-from test_short import LINES, least_by_search, random_form, slanted
+from searches import LINES, least_by_search, random_form, slanted
 
 
 def some_forms():

@@ -4,91 +4,15 @@ import itertools
 import random
 import time
 import unittest
-from fractions import Fraction
-from math import isqrt
 
 from nearsteps.errors import BadForm, BadNumber
 from nearsteps.short import least_size, many_by_size, short_steps
-from odd_values import ODD_VALUES, added, error_of, plain_changed, plain_determinant, plain_lean, strict
+from odd_values import (
+    NO_FORMS, ODD_VALUES, added, error_of, plain_changed, plain_determinant, plain_lean, strict,
+)
+from searches import LINES, SIX, TWELVE, all_within, least_by_search, random_form, slanted
 
-NO_FORMS = [
-    None, True, 1, "form", (), ((),), [(1,)], ([1],), ((0,),), ((-1,),), ((True,),), ((1, 2), (2, 1)), ((1, 1), (1, 1)),
-    ((1, 0), (1, 1)), ((1, 0, 0), (0, 1, 0)), ((1, 0, 0), (0, 1, 0), (0, 0, 0)), {0: (1,)},
-]
 NO_NUMBERS = [None, True, False, -1, -10 ** 39, "", "1", (), (1,), [], [1], {}, {1: 1}, ((1,),)]
-SIX = ((2, -1), (-1, 2))
-TWELVE = ((2, -1, 0), (-1, 2, -1), (0, -1, 2))
-# Forms, each with a most that is within the limits of part 2.
-LINES = {
-    ((1,),): 400, ((200,),): 400, ((1, 0), (0, 1)): 127, SIX: 210, ((1, 0), (0, 200)): 400, ((7, 3), (3, 5)): 400,
-    ((1, 0, 0), (0, 1, 0), (0, 0, 1)): 20, TWELVE: 24, ((1, 0, 0), (0, 200, 0), (0, 0, 200)): 400,
-    ((1, 0, 0), (0, 1, 0), (0, 0, 200)): 100, ((20, 7, -3), (7, 30, 11), (-3, 11, 40)): 150,
-    ((139, 93, 97), (93, 155, 99), (97, 99, 81)): 400,
-}
-
-
-def range_around(middle, square):
-    """Return the integers whose difference from a fraction has at most this square."""
-    if square < 0:
-        return range(0)
-    root = isqrt(square.numerator // square.denominator) + 1
-    numbers = range(-root + (middle.numerator // middle.denominator), root + middle.numerator // middle.denominator + 2)
-    return [number for number in numbers if (number - middle) ** 2 <= square]
-
-
-def all_within(form, most):
-    """Return all steps of at most this size, by completing squares from the last number on."""
-    n = len(form)
-    rows = [[Fraction(number) for number in row] for row in form]
-    for k in range(n):
-        for i in range(k + 1, n):
-            times = rows[i][k] / rows[k][k]
-            rows[i] = [a - times * b for a, b in zip(rows[i], rows[k])]
-    found = [((), Fraction(most))]
-    for k in reversed(range(n)):
-        longer = []
-        for tail, left in found:
-            middle = -sum(rows[k][k + 1 + at] * number for at, number in enumerate(tail)) / rows[k][k]
-            for number in range_around(middle, left / rows[k][k]):
-                longer.append(((number,) + tail, left - rows[k][k] * (number - middle) ** 2))
-        found = longer
-    return sorted(step for step, _ in found)
-
-
-def random_form(chance, n, most):
-    """Return a form whose integers are at most so much in size."""
-    while True:
-        deep = chance.choice([1, 2, 3, 5, 8])
-        rows = [tuple(chance.randint(-deep, deep) for _ in range(n)) for _ in range(n)]
-        more = [chance.choice([0, 0, 1, 20, 100]) for _ in range(n)]
-        form = tuple(
-            tuple(sum(a * b for a, b in zip(rows[i], rows[j])) + (more[i] if i == j else 0) for j in range(n))
-            for i in range(n)
-        )
-        square = all(plain_determinant([row[:k] for row in form[:k]]) > 0 for k in range(1, n + 1))
-        if square and max(abs(number) for row in form for number in row) <= most:
-            return form
-
-
-def slanted(chance, form, most):
-    """Return a form with rows added to others again and again, as far as the integers let, and the change."""
-    n = len(form)
-    change = tuple(tuple(int(i == j) for j in range(n)) for i in range(n))
-    for _ in range(200 if n > 1 else 0):
-        to, what = chance.sample(range(n), 2)
-        times = chance.choice([-1, 1])
-        rows = list(change)
-        rows[to] = tuple(a + times * b for a, b in zip(rows[to], rows[what]))
-        after = plain_changed(form, rows)
-        if max(abs(number) for row in after for number in row) <= most:
-            change = tuple(rows)
-    return plain_changed(form, change), change
-
-
-def least_by_search(form):
-    """Return the least size of a step other than noughts."""
-    shortest = min(form[at][at] for at in range(len(form)))
-    return min(plain_lean(form, step, step) for step in all_within(form, shortest) if any(step))
 
 
 def greatest_most(form):
