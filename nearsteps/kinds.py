@@ -1,9 +1,16 @@
-"""Which values are integers, steps, square tables and certificates of a kind."""
+"""Which values are integers, fractions, steps, square tables and certificates of a kind."""
+
+from math import gcd
 
 
 def is_whole(thing):
     """Tell whether any value is an integer; a bool is none."""
     return isinstance(thing, int) and not isinstance(thing, bool)
+
+
+def is_fraction(thing):
+    """Tell whether any value is a pair (top, bottom) in lowest terms whose bottom is above 0."""
+    return is_step(2, thing) and thing[1] > 0 and gcd(thing[0], thing[1]) == 1
 
 
 def is_step(n, thing):

@@ -1,11 +1,11 @@
 """Spots, the places nearest to them, and plain rounding (part 4 of the document)."""
 
 from nearsteps.errors import BadSpot
-from nearsteps.forms import back, need_form, need_step
+from nearsteps.forms import need_form, need_step
 from nearsteps.kinds import has_word, is_step, is_whole
 from nearsteps.obtuse import obtuse_rows, shortest_in_classes
-from nearsteps.rows import added, led_by, noughts_but, size_by
-from nearsteps.spots import apart, common_divisor, fraction, leading, lowest, rounded, tying, way
+from nearsteps.rows import added, led_by, noughts_but
+from nearsteps.spots import common_divisor, gap_by, leading, lowest, rounded, told_by, tying, way
 from nearsteps.walls import wall_fits, walls
 
 
@@ -28,7 +28,7 @@ def plain_place(n, spot):
 def gap(form, spot, place):
     """Return the size of the difference of a spot and a place, a fraction."""
     need_spot_and_place(form, spot, place)
-    return fraction(size_by(form, apart(spot, place)), spot[1] * spot[1])
+    return gap_by(form, spot, place)
 
 
 def judge_nearest(form, spot, place):
@@ -59,12 +59,8 @@ def nearest_places(form, spot):
     """Return the ascending tuple of all places nearest to the spot."""
     need_form(form)
     need_spot(len(form), spot)
-    # Of two nearest places each is as near as the other to what is half way between them,
-    # too, and none is nearer: so their difference is among the shortest of its class.
     rows = obtuse_rows(form)
-    steps = shortest_in_classes(form, rows)
-    _, place = way(form, steps, spot, rounded_by(rows[:-1], spot))
-    return tuple(sorted([added(place, step) for step in tying(form, steps, spot, place)]))
+    return nearest_by(form, rows, shortest_in_classes(form, rows), spot)
 
 
 def judge_plain(form):
@@ -84,6 +80,15 @@ def plain_holds(form, thing):
     return leading(form, walls(form), thing[1], rounded(thing[1])) is not None
 
 
+def nearest_by(form, rows, steps, spot):
+    """Return the ascending tuple of the nearest places, by obtuse rows and the shortest steps of all classes."""
+    # Of two nearest places each is as near as the other to what is half way between them,
+    # too, and none is nearer: so their difference is among the shortest of its class.
+    start = led_by(rows[:-1], rounded(told_by(rows[:-1], spot)))
+    _, place = way(form, steps, spot, start)
+    return tuple(sorted([added(place, step) for step in tying(form, steps, spot, place)]))
+
+
 def wrong_spot(form):
     """Return a spot whose plain place is not nearest, None if there is none."""
     # Let a be the size of the plain step at i, and b the lean at (i, j) without its sign.
@@ -99,12 +104,6 @@ def wrong_spot(form):
                 tops = added(noughts_but(n, i, top), noughts_but(n, j, top if form[i][j] > 0 else -top))
                 return lowest(tops, 4 * (a + b))
     return None
-
-
-def rounded_by(rows, spot):
-    """Return the place whose numbers, by the rows of a change, are those of the spot rounded."""
-    tops, bottom = spot
-    return led_by(rows, rounded((led_by(back(len(rows), rows), tops), bottom)))
 
 
 def need_spot(n, thing):

@@ -1,6 +1,8 @@
 """Rows that lie as well as possible to one another, however slanted the form is."""
 
-from nearsteps.rows import added, determinant, lean_by, leans_by, led_by, noughts_but, noughts_of, opposite, size_by
+from nearsteps.rows import (
+    added, added_times, determinant, lean_by, leans_by, led_by, noughts_but, noughts_of, opposite, size_by,
+)
 
 
 def obtuse_rows(form):
@@ -44,7 +46,7 @@ def turned(rows, pair):
         elif at == j:
             out.append(row)
         else:
-            out.append(tuple([number + times * more for number, more in zip(row, turn)]))
+            out.append(added_times(row, turn, times))
     return tuple(out)
 
 

@@ -71,6 +71,11 @@ def added(one, other):
     return tuple([number + more for number, more in zip(one, other)])
 
 
+def added_times(one, other, times):
+    """Return the sum of a step and another one times a number."""
+    return tuple([number + times * more for number, more in zip(one, other)])
+
+
 def opposite(step):
     """Return the opposite of a step."""
     return tuple([-number for number in step])

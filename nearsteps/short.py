@@ -36,7 +36,8 @@ def many_by_size(form, most):
 
 def numbers_within(form, most):
     """Return all steps of at most this size, each with its size; quick only if the form has short rows."""
-    pairs = [(step, size_by(form, step)) for step in steps_in_box(bounds_within(form, most))]
+    box = [(-bound, bound) for bound in bounds_within(form, most)]
+    pairs = [(step, size_by(form, step)) for step in steps_in_box(box)]
     return [(step, reached) for step, reached in pairs if reached <= most]
 
 
@@ -48,11 +49,11 @@ def bounds_within(form, most):
     return [isqrt(most * row[at] // whole) for at, row in enumerate(adjoint(form))]
 
 
-def steps_in_box(bounds):
-    """Return all steps whose numbers are at most the bounds, in size."""
+def steps_in_box(box):
+    """Return the steps whose numbers are between the least and the greatest that the box tells for each."""
     steps = [()]
-    for bound in bounds:
-        steps = [step + (number,) for step in steps for number in range(-bound, bound + 1)]
+    for least, greatest in box:
+        steps = [step + (number,) for step in steps for number in range(least, greatest + 1)]
     return steps
 
 

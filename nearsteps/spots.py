@@ -2,7 +2,7 @@
 
 from math import gcd
 
-from nearsteps.rows import added, lean_by, size_by
+from nearsteps.rows import added, adjoint, determinant, lean_by, led_by, opposite, size_by
 
 
 def common_divisor(tops, bottom):
@@ -25,6 +25,19 @@ def fraction(top, bottom):
     return (top // common, bottom // common)
 
 
+def is_above(one, other):
+    """Tell whether the first fraction is above the second one."""
+    return one[0] * other[1] > other[0] * one[1]
+
+
+def told_by(rows, spot):
+    """Return the spot of the numbers by which the sum of the rows is the spot."""
+    tops, bottom = spot
+    whole = determinant(rows)
+    numbers = led_by(adjoint(rows), tops)
+    return lowest(numbers if whole > 0 else opposite(numbers), abs(whole) * bottom)
+
+
 def rounded(spot):
     """Return the place of the integers that differ least, the greater one of two."""
     tops, bottom = spot
@@ -35,6 +48,11 @@ def apart(spot, place):
     """Return the tops of the difference of a spot and a place, over the spot's bottom."""
     tops, bottom = spot
     return tuple([top - bottom * number for top, number in zip(tops, place)])
+
+
+def gap_by(form, spot, place):
+    """Return the size of the difference of a spot and a place, a fraction."""
+    return fraction(size_by(form, apart(spot, place)), spot[1] * spot[1])
 
 
 def growth(form, off, bottom, step):

@@ -6,7 +6,7 @@ import unittest
 
 PACKAGE = pathlib.Path(__file__).resolve().parent.parent / "nearsteps"
 
-# What has landed so far: file, name, parameters.
+# File, name, parameters.
 FUNCTIONS = {
     "forms": {
         "is_table": ["thing"], "is_form": ["thing"], "judge_form": ["table"], "form_holds": ["table", "thing"],
@@ -33,6 +33,35 @@ FUNCTIONS = {
     "cells": {
         "is_in_cell": ["form", "spot"], "judge_corner": ["form", "spot"], "corner_holds": ["form", "spot", "thing"],
         "corners": ["form"], "face_of": ["form", "wall"], "counts": ["form"],
+    },
+    "reach": {
+        "reach": ["form"], "deepest": ["form"], "judge_reach": ["form", "r"], "reach_holds": ["form", "r", "thing"],
+    },
+    "readings": {
+        "judge_reading": ["form", "e"], "reading_holds": ["form", "e", "thing"], "read": ["form", "spot"],
+        "may_be_meant": ["form", "spot", "e"],
+    },
+    "alike": {
+        "signs": ["form"], "least_signs": ["form"], "judge_alike": ["one", "other"],
+        "alike_holds": ["one", "other", "thing"],
+    },
+    "motions": {
+        "motions": ["form"], "spot_led": ["form", "change", "spot"],
+    },
+    "coarse": {
+        "is_coarse": ["n", "thing"], "index": ["n", "coarse"], "coarse_form": ["form", "coarse"],
+        "nearest_coarse": ["form", "coarse", "spot"], "judge_stages": ["form", "coarse"],
+        "stages_hold": ["form", "coarse", "thing"],
+    },
+    "holes": {
+        "is_hole": ["form", "thing"], "holes": ["form"], "hole_at": ["form", "spot"], "centre_of": ["form", "hole"],
+        "hull_size": ["form", "hole"], "judge_within": ["form", "hole", "spot"],
+        "within_holds": ["form", "hole", "spot", "thing"],
+    },
+    "words": {
+        "word_of": ["n", "coarse", "place"], "words": ["n", "coarse"], "sum_of": ["n", "coarse", "one", "other"],
+        "order_of": ["n", "coarse", "word"], "judge_same": ["n", "coarse", "one", "other"],
+        "same_holds": ["n", "coarse", "one", "other", "thing"], "leaders": ["form", "coarse", "word"],
     },
 }
 CLASSES = {

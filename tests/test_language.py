@@ -12,6 +12,8 @@ LIBRARY = {
     "math": {"gcd", "lcm", "isqrt", "comb", "perm", "factorial"},
     "itertools": {"product", "combinations", "permutations"},
 }
+# A doctest that ran before leaves an underscore among them.
+TAKEN = set(dir(builtins)) - {"_"}
 BUILTINS = set(
     "len range enumerate zip min max sum abs sorted reversed int str bool list tuple dict set isinstance ord repr "
     "any all divmod Exception ValueError KeyError IndexError ZeroDivisionError".split())
@@ -103,9 +105,9 @@ class NamesTest(unittest.TestCase):
         for path, tree in trees():
             top = [name for _, name in imported(tree)] + [node.name for node in tree.body if hasattr(node, "name")]
             self.assertEqual(len(top), len(set(top)), path)
-            taken = {name for _, name in imported(tree)} | set(dir(builtins)) | {
+            taken = {name for _, name in imported(tree)} | TAKEN | {
                 node.name for node in tree.body if isinstance(node, ast.ClassDef)}
-            self.assertFalse({node.name for node in functions_of(tree) if node.name != "__init__"} & set(dir(builtins)))
+            self.assertFalse({node.name for node in functions_of(tree) if node.name != "__init__"} & TAKEN)
             for node in functions_of(tree):
                 self.assertFalse(set(bound_in(node)) & taken, (path, node.name))
                 self.assertFalse(set(bound_in(node)) & {one.name for one in functions_of(tree)}, (path, node.name))
@@ -115,7 +117,7 @@ class NamesTest(unittest.TestCase):
             names = [node.id for node in ast.walk(tree) if isinstance(node, ast.Name)]
             attributes = [node.attr for node in ast.walk(tree) if isinstance(node, ast.Attribute)]
             self.assertFalse(BARRED & set(names + attributes), path)
-            self.assertFalse(set(names) & (set(dir(builtins)) - BUILTINS), path)
+            self.assertFalse(set(names) & (TAKEN - BUILTINS), path)
             self.assertFalse([name for name in names + attributes if name.startswith("__")], path)
             # An underscore alone is assigned, never read.
             self.assertFalse([node for node in ast.walk(tree) if isinstance(node, ast.Name)
